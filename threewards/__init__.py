@@ -1,0 +1,1 @@
+"""Threewards: rooms with straight walls, cut into triangles, dyed by three and kept."""
