@@ -68,3 +68,44 @@ def is_line(corners, one, other):
     stops = sorted({part for side in walls(corners) for part in shares(way, side)})
     between = [(before + after) / 2 for before, after in zip(stops, stops[1:])] + stops[1:-1]
     return all(place(corners, point_at(way, part)) == "in" for part in between)
+
+
+def lines(corners):
+    pairs = [(one, other) for other in range(len(corners)) for one in range(other)]
+    return sorted(pair for pair in pairs if is_line(corners, *pair))
+
+
+def do_cross(corners, one, other):
+    """Whether a point between the corners of the one line lies between the corners of the other."""
+    way, other_way = [tuple(corners[number] for number in line) for line in (one, other)]
+    common = [point_at(way, part) for part in shares(way, other_way)]
+    # Two bounds in common are those of a whole stretch.
+    return len(common) == 2 or any(point not in way and point not in other_way for point in common)
+
+
+def cuts(corners):
+    """All cuts, rising: the lists of lines are grown line by line, as long as no two cross."""
+    found = lines(corners)
+    crossing = {(one, other) for one in found for other in found if one != other and do_cross(corners, one, other)}
+
+    def grown(chosen, later):
+        if len(chosen) == len(corners) - 3:
+            return [chosen]
+        return [cut for k, line in enumerate(later) if not any((line, other) in crossing for other in chosen)
+                for cut in grown(chosen + [line], later[k + 1:])]
+
+    return grown([], found)
+
+
+def turnings(all_cuts):
+    """For each cut and each line of it the cut that has another line in that line's place, or None."""
+    by_rest = {}
+    for cut in all_cuts:
+        for line in cut:
+            by_rest.setdefault(frozenset(cut) - {line}, []).append(cut)
+    told = {}
+    for cut in all_cuts:
+        for line in cut:
+            others = [other for other in by_rest[frozenset(cut) - {line}] if other != cut]
+            told[tuple(cut), line] = others[0] if others else None
+    return told

@@ -24,12 +24,33 @@ METHODS = set("""append clear copy count endswith extend find get index insert i
 WORDS_LEFT_OUT = re.compile(r"\b(type|typing|typing_extensions|enum|Enum|IntEnum|StrEnum|Flag|IntFlag|Generic|Protocol"
                             r"|ABC|ABCMeta|namedtuple|NamedTuple|TypedDict|TYPE_CHECKING|abstractmethod)\b"
                             r"|dataclass|overload|contextmanager")
+NAMES_LEFT_OUT = set("""register mro elements open input version_info with_traceback add_note attrgetter breakpoint
+    builtins compile copyright credits delattr dir eval exec exit gc getattr globals hasattr help id importlib license
+    locals methodcaller os quit setattr super type vars sys chr print""".split())
+WALKED_AT_ONCE = ("zip", "enumerate", "reversed", "range")
+WALKERS = ("list", "tuple", "dict", "sorted", "sum", "any", "all", "enumerate", "zip", "min", "max")
+KEYWORDS = {"sorted": ("key", "reverse"), "min": ("key", "default"), "max": ("key", "default"), "sum": ("start",),
+            "enumerate": ("start",), "zip": ("strict",)}
 SPECIAL_METHODS = ("__init__", "__eq__", "__repr__", "__str__", "__len__")
 
 
 def nodes(sort):
     return [(path.name, node) for path in FILES for node in ast.walk(ast.parse(path.read_text())) if
             isinstance(node, sort)]
+
+
+def nodes_below(sort):
+    """The nodes of a sort, each with the node that it stands in."""
+    return [(path.name, above, node) for path in FILES for above in ast.walk(ast.parse(path.read_text()))
+            for node in ast.iter_child_nodes(above) if isinstance(node, sort)]
+
+
+def called(node):
+    return node.func.id if isinstance(node, ast.Call) and isinstance(node.func, ast.Name) else None
+
+
+def tops():
+    return {f"threewards.{path.stem}": ast.parse(path.read_text()).body for path in FILES}
 
 
 def own_methods():
@@ -60,6 +81,7 @@ class Form(unittest.TestCase):
             self.assertEqual(node.orelse, [], name)
         for name, node in nodes(ast.Assign):
             self.assertEqual(len(node.targets), 1, name)
+            self.assertNotIsInstance(node.targets[0], (ast.Tuple, ast.List), name)
         for name, node in nodes(ast.ListComp):
             self.assertTrue(len(node.generators) == 1 and len(node.generators[0].ifs) <= 1, name)
         for name, node in nodes(ast.BinOp):
@@ -73,6 +95,66 @@ class Form(unittest.TestCase):
                 self.assertEqual(node.level, 0)
                 self.assertRegex(node.module, r"^threewards\.[a-z]+$")
                 self.assertNotIn("*", [alias.name for alias in node.names])
+
+    def test_imports_name_the_defining_file_and_go_in_no_circle(self):
+        drawn = {module: [node for node in body if isinstance(node, ast.ImportFrom)] for module, body in tops().items()}
+        defined = {module: [node.name for node in body if isinstance(node, (ast.FunctionDef, ast.ClassDef))] +
+                   [node.targets[0].id for node in body if isinstance(node, ast.Assign)]
+                   for module, body in tops().items()}
+        for module, rows in drawn.items():
+            for row in rows:
+                for alias in row.names:
+                    self.assertIn(alias.name, defined[row.module], module)
+        left = {module: {row.module for row in rows} for module, rows in drawn.items()}
+        while left:
+            free = [module for module, rows in left.items() if not rows & set(left)]
+            self.assertTrue(free, f"a circle among {sorted(left)}")
+            left = {module: rows for module, rows in left.items() if module not in free}
+
+    def test_the_top_of_a_module(self):
+        for module, body in tops().items():
+            docstring = isinstance(body[0], ast.Expr) and isinstance(body[0].value, ast.Constant)
+            for node in body[1:] if docstring else body:
+                self.assertIsInstance(node, (ast.ImportFrom, ast.FunctionDef, ast.ClassDef, ast.Assign), module)
+            bound = [node.name for node in body if isinstance(node, (ast.FunctionDef, ast.ClassDef))]
+            bound += [alias.name for node in body if isinstance(node, ast.ImportFrom) for alias in node.names]
+            bound += [node.targets[0].id for node in body if isinstance(node, ast.Assign)]
+            self.assertEqual(len(set(bound)), len(bound), module)
+
+    def test_no_parameter_or_local_is_called_like_a_name_of_the_file_s_top(self):
+        for module, body in tops().items():
+            top = [node.name for node in body if isinstance(node, (ast.FunctionDef, ast.ClassDef))]
+            top += [alias.name for node in body if isinstance(node, ast.ImportFrom) for alias in node.names]
+            for function in [node for node in body if isinstance(node, ast.FunctionDef)]:
+                inner = [node.arg for node in ast.walk(function) if isinstance(node, ast.arg)]
+                inner += [node.id for node in ast.walk(function)
+                          if isinstance(node, ast.Name) and isinstance(node.ctx, ast.Store)]
+                with self.subTest(module, function=function.name):
+                    self.assertEqual(set(inner) & set(top), set())
+
+    def test_what_is_walked_at_once_and_sets(self):
+        for name, above, node in nodes_below(ast.Call):
+            with self.subTest(name, line=node.lineno):
+                walked = called(node) in WALKED_AT_ONCE or (isinstance(node.func, ast.Attribute)
+                                                            and node.func.attr in ("items", "keys", "values"))
+                if walked and not isinstance(above, (ast.For, ast.comprehension)):
+                    self.assertIn(called(above), WALKERS)
+                if called(node) in ("set", "frozenset") and not isinstance(above, ast.Compare):
+                    self.assertIn(called(above), ("sorted", "len"))
+                for keyword in node.keywords:
+                    self.assertIn(keyword.arg, KEYWORDS.get(called(node), ()))
+
+    def test_is_stands_beside_none_true_and_false_alone(self):
+        for name, node in nodes(ast.Compare):
+            for sort, right in zip(node.ops, node.comparators):
+                if isinstance(sort, (ast.Is, ast.IsNot)):
+                    self.assertTrue(isinstance(right, ast.Constant) and right.value in (None, True, False), name)
+
+    def test_names_left_out(self):
+        for name, node in nodes((ast.Name, ast.Attribute)):
+            word = node.id if isinstance(node, ast.Name) else node.attr
+            with self.subTest(name, line=node.lineno):
+                self.assertNotIn(word, NAMES_LEFT_OUT)
 
     def test_functions_and_classes(self):
         for name, node in nodes(ast.FunctionDef):

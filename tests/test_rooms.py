@@ -1,22 +1,13 @@
 """Rooms, areas, places of points and lines."""
 
-import functools
 import itertools
 import unittest
 
 import reckoned
-from samples import (AREAS, BULGING, DENTED, HUGE, NO_ROOMS, ROOMS, TOO_FEW, TOO_MANY, all_no_rooms, all_rooms,
-                     begun_elsewhere)
+from samples import (AREAS, BULGING, DENTED, HUGE, NO_ROOMS, ROOMS, SMALL_GRID, TOO_FEW, TOO_MANY, all_no_rooms,
+                     all_rooms, begun_elsewhere, small_rooms)
 from threewards.errors import NoRoom
 from threewards.rooms import area, is_line, is_room, place
-
-SMALL_GRID = [(x, y) for x in range(3) for y in range(3)]
-
-
-@functools.cache
-def small_rooms(count):
-    """All rooms of so many corners on a grid of three by three."""
-    return [list(corners) for corners in itertools.permutations(SMALL_GRID, count) if is_room(list(corners))]
 
 
 def lines_of(room):

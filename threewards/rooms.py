@@ -30,6 +30,10 @@ def place(room, point):
 
 def is_line(room, one, other):
     check_room(room)
+    return has_line(room, one, other)
+
+
+def has_line(room, one, other):
     if not 0 <= one < other < len(room) or are_neighbours(len(room), one, other):
         return False
     way = (room[one], room[other])
